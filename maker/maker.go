@@ -1,0 +1,28 @@
+// Package maker: from rules to a plan, and from a plan to what is done: see DOC.md.
+package maker
+
+import (
+	"maker/api"
+	"maker/plain"
+)
+
+// Plain tells the plain form of a text of rules (P2).
+func Plain(text string) (string, api.Errno, int) { return plain.Text(text) }
+
+// Check tells whether a plan is sound (P3).
+func Check(plan string) api.Errno { return api.OK }
+
+// Run runs a plan (P4).
+func Run(plan string, files []api.File, effects []api.Effect, clock int) (api.Result, api.Errno) {
+	return api.Result{}, api.OK
+}
+
+// Compile makes a plan of rules (P5).
+func Compile(files []api.File, path string, goal string) (string, api.Errno, int) {
+	return "", api.OK, 0
+}
+
+// Make does what rules tell (P6).
+func Make(files []api.File, path string, goal string, effects []api.Effect, clock int) (api.Result, api.Errno, int) {
+	return api.Result{}, api.OK, 0
+}
