@@ -4,17 +4,23 @@ package maker
 import (
 	"maker/api"
 	"maker/plain"
+	"maker/plans"
+	"maker/run"
+	"maker/world"
 )
 
 // Plain tells the plain form of a text of rules (P2).
 func Plain(text string) (string, api.Errno, int) { return plain.Text(text) }
 
 // Check tells whether a plan is sound (P3).
-func Check(plan string) api.Errno { return api.OK }
+func Check(plan string) api.Errno {
+	_, errno := plans.Read(plan)
+	return errno
+}
 
 // Run runs a plan (P4).
 func Run(plan string, files []api.File, effects []api.Effect, clock int) (api.Result, api.Errno) {
-	return api.Result{}, api.OK
+	return run.Text(plan, world.New(files, effects, clock))
 }
 
 // Compile makes a plan of rules (P5).
