@@ -3,6 +3,7 @@ package maker
 
 import (
 	"maker/api"
+	"maker/compile"
 	"maker/plain"
 	"maker/plans"
 	"maker/run"
@@ -25,7 +26,7 @@ func Run(plan string, files []api.File, effects []api.Effect, clock int) (api.Re
 
 // Compile makes a plan of rules (P5).
 func Compile(files []api.File, path string, goal string) (string, api.Errno, int) {
-	return "", api.OK, 0
+	return compile.Text(files, path, goal)
 }
 
 // Make does what rules tell (P6).

@@ -52,6 +52,12 @@ func (w *World) Has(name string) bool {
 	return ok
 }
 
+// Text tells the text of the file of that name, and whether there is one.
+func (w *World) Text(name string) (string, bool) {
+	file, ok := w.files[name]
+	return file.Text, ok
+}
+
 // Newer tells whether there are both files, and the other one is newer than the one.
 func (w *World) Newer(one, other string) bool {
 	a, there := w.files[one]

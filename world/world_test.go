@@ -57,3 +57,15 @@ func TestGive(t *testing.T) {
 		t.Errorf("an effect: %d, %v, %d", exit, w.Files(), w.Clock())
 	}
 }
+
+func TestText(t *testing.T) {
+	w := New([]api.File{{Path: "a", Text: "first"}, {Path: "a", Text: "second"}, {Path: ""}}, nil, 0)
+	for _, c := range []struct {
+		name, text string
+		ok         bool
+	}{{"a", "first", true}, {"", "", true}, {"b", "", false}} {
+		if text, ok := w.Text(c.name); text != c.text || ok != c.ok {
+			t.Errorf("%q: %q, %t", c.name, text, ok)
+		}
+	}
+}
