@@ -28,6 +28,7 @@ func Order(book *rules.Book, w *world.World, goal string) ([]Node, api.Errno) {
 		return nil, api.ErrSize
 	}
 	walk := walk{book: book, world: w, states: map[string]state{}}
+	walk.patterns = walk.usable(book.Patterns)
 	if errno := walk.from(goal); errno != api.OK {
 		return nil, errno
 	}
@@ -53,11 +54,12 @@ type visit struct {
 // walk goes from node to node. What is open is a list, not calls within calls:
 // patterns may lead through as many nodes as there are files.
 type walk struct {
-	book   *rules.Book
-	world  *world.World
-	states map[string]state
-	open   []visit // each a need of the one ahead of it
-	over   []Node
+	book     *rules.Book
+	world    *world.World
+	patterns []pattern
+	states   map[string]state
+	open     []visit // each a need of the one ahead of it
+	over     []Node
 }
 
 func (w *walk) from(goal string) api.Errno {

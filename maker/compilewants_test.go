@@ -539,13 +539,9 @@ func TestCompileOfLongTexts(t *testing.T) {
 	wantErrno(t, "many words", rulesAnd("include"+strings.Repeat(" R", many)+"\n"), "", api.ErrSize, 1)
 	wantErrno(t, "a long goal", rulesAnd("%:\n\tgo\n"), strings.Repeat("g", many), api.ErrSize, 0)
 
-	var layers strings.Builder
-	for i := range 60 {
-		name := string([]byte{byte('A' + i)})
-		next := string([]byte{byte('A' + i + 1)})
-		layers.WriteString(words(name, 400) + ":" + words(next, 400) + "\n")
-	}
-	wantErrno(t, "many nodes with many needs", rulesAnd(layers.String()+".PHONY:"+words(string([]byte{'A' + 60}), 400)+"\n"), "A0", api.ErrSize, 0)
+	wantErrno(t, "many nodes with many needs", rulesAnd(layers(60)), "A0", api.ErrSize, 0)
+	lacking := strings.Repeat("%:"+words("B", 400)+" none\n\tgo\n%:"+words("B", 400)+" none%\n\tgo\n", 15)
+	wantErrno(t, "many nodes, and patterns with many needs", rulesAnd(layers(30)+lacking), "A0", api.ErrSize, 0)
 
 	files := register(17)
 	wantErrno(t, "from file to file, around", files, files[2].Path, api.ErrCycle, 0)
@@ -553,6 +549,16 @@ func TestCompileOfLongTexts(t *testing.T) {
 	if spent := time.Since(start); spent > time.Minute {
 		t.Errorf("P1: long texts took %v", spent)
 	}
+}
+
+// layers: so many rules, each with 400 targets, all of which need the 400 targets of the next one.
+func layers(count int) string {
+	var b strings.Builder
+	name := func(i int) string { return string([]byte{byte('A' + i)}) }
+	for i := range count {
+		b.WriteString(words(name(i), 400) + ":" + words(name(i+1), 400) + "\n")
+	}
+	return b.String() + ".PHONY:" + words(name(count), 400) + "\n"
 }
 
 // register: patterns that lead from each file of so many binary digits, but that of zeros, to another one, through all of them:
