@@ -381,6 +381,12 @@ func (m *rulesModel) commands() {
 
 // modelDo does what 'What is done' tells of nodes in their order.
 func modelDo(nodes []*modelNode, files []api.File, effects []api.Effect, clock int) api.Result {
+	res, _ := modelDone(nodes, files, effects, clock)
+	return res
+}
+
+// modelDone does it too, and tells which nodes were stale.
+func modelDone(nodes []*modelNode, files []api.File, effects []api.Effect, clock int) (api.Result, map[string]bool) {
 	world := map[string]api.File{}
 	for _, f := range slices.Backward(files) {
 		world[f.Path] = f
@@ -419,5 +425,5 @@ func modelDo(nodes []*modelNode, files []api.File, effects []api.Effect, clock i
 		res.Files = append(res.Files, f)
 	}
 	sort.Slice(res.Files, func(i, j int) bool { return res.Files[i].Path < res.Files[j].Path })
-	return res
+	return res, wasStale
 }

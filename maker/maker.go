@@ -31,5 +31,10 @@ func Compile(files []api.File, path string, goal string) (string, api.Errno, int
 
 // Make does what rules tell (P6).
 func Make(files []api.File, path string, goal string, effects []api.Effect, clock int) (api.Result, api.Errno, int) {
-	return api.Result{}, api.OK, 0
+	plan, errno, line := Compile(files, path, goal)
+	if errno != api.OK {
+		return api.Result{}, errno, line
+	}
+	result, errno := Run(plan, files, effects, clock)
+	return result, errno, 0
 }
